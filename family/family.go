@@ -22,8 +22,8 @@ type Function struct {
 // Table has functions by their names.
 type Table map[string]Function
 
-// Call tells what the function of that name tells.
-func (t Table) Call(name string, args []api.Array) (api.Array, bool) {
+// Call tells what the function of that name tells; of an argument that may not be the fault broken.
+func (t Table) Call(name string, args []api.Array, broken int) (api.Array, bool) {
 	f, ok := t[name]
 	switch {
 	case !ok:
@@ -33,7 +33,7 @@ func (t Table) Call(name string, args []api.Array) (api.Array, bool) {
 	}
 	for _, a := range args {
 		if !shape.Right(a) {
-			return Fault(api.FaultCalc), true
+			return Fault(broken), true
 		}
 	}
 	return copied(f.Tell(args)), true
