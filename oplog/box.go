@@ -34,7 +34,7 @@ func (b *Box) Put(l Letter) ([]Letter, api.Errno) {
 	if b.waiting == nil {
 		b.waiting = map[api.Id]Letter{}
 	}
-	b.waiting[l.Deed.Id] = clone(l)
+	b.waiting[l.Deed.Id] = Clone(l)
 	if !b.mayGo(l) { // None of the others could be handed on, and nothing is new for them.
 		return nil, api.OK
 	}

@@ -89,7 +89,7 @@ func TestP35_1(t *testing.T) {
 				}
 			},
 		} {
-			m := clone(l)
+			m := Clone(l)
 			f(&m)
 			if got, e := Encode(m); got != "" || e != api.ErrForm {
 				t.Error(s, i, got)
@@ -173,7 +173,7 @@ func TestP35_2_P35_3(t *testing.T) {
 		t.Error("zero")
 	}
 	in := Letter{Deed: api.Deed{Id: id(1, 3), Kind: api.SetCell, Cell: cell(), Content: formula()}, Seen: []api.Id{id(1, 2)}}
-	kept := clone(in)
+	kept := Clone(in)
 	d := NewBox()
 	d.Put(in)
 	in.Deed.Content.Tree.L[0] = api.Node{}
