@@ -128,14 +128,14 @@ func (r *run) pass() {
 	g := r.edges()
 	r.result.graph = g
 	r.result.arrays = make([]api.Array, len(r.formulas))
-	inRing := r.inRings(g)
+	r.result.inRing = r.inRings(g)
 	for _, x := range g.Order() {
-		r.result.arrays[x] = r.array(x, inRing[x])
+		r.result.arrays[x] = r.array(x)
 	}
 }
 
 // array tells what a formula cell comes to, if those on which it hangs are reckoned.
-func (r *run) array(x int, inRing bool) api.Array {
+func (r *run) array(x int) api.Array {
 	at := r.formulas[x].place
 	rect, stands, decided := r.result.board.Decided(at.row, at.col)
 	if decided && !stands {
@@ -145,7 +145,7 @@ func (r *run) array(x int, inRing bool) api.Array {
 		rect = spill.Rect{Rows: 1, Cols: 1}
 	}
 	circle := filled(rect.Rows, rect.Cols, value.Bad(api.FaultCycle))
-	if inRing {
+	if r.result.inRing[x] {
 		return circle
 	}
 	a := r.told(x)
