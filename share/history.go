@@ -63,7 +63,7 @@ func (h *history) byCell() map[api.Cell]*reg.Reg {
 
 // registers tells a register of the deeds of a kind for each key that they have.
 func registers[K comparable](h *history, kind int, key func(d api.Deed) K) map[K]*reg.Reg {
-	out := map[K]*reg.Reg{}
+	out, came := map[K]*reg.Reg{}, map[K][]api.Id{}
 	for _, l := range h.letters {
 		if l.Deed.Kind != kind {
 			continue
@@ -72,17 +72,20 @@ func registers[K comparable](h *history, kind int, key func(d api.Deed) K) map[K
 		if out[k] == nil {
 			out[k] = reg.New()
 		}
-		seen := dot.New()
-		for _, id := range l.Seen {
-			seen.Add(id)
-		}
-		w := reg.Write{Id: l.Deed.Id, Content: l.Deed.Content}
-		for _, id := range out[k].Ids() {
-			if seen.Has(id) {
+		w := reg.Write{Id: l.Deed.Id, Content: l.Deed.Content, Over: make([]api.Id, 0, len(came[k]))}
+		for _, id := range came[k] {
+			if covers(l.Seen, id) {
 				w.Over = append(w.Over, id)
 			}
 		}
 		out[k].Put(w)
+		came[k] = append(came[k], w.Id)
 	}
 	return out
+}
+
+// covers tells whether what was seen, by rising authors, has an id.
+func covers(seen []api.Id, id api.Id) bool {
+	i, found := slices.BinarySearchFunc(seen, id.Author, func(x api.Id, author int) int { return x.Author - author })
+	return found && id.N <= seen[i].N
 }

@@ -213,6 +213,13 @@ func TestP6_1(t *testing.T) {
 	if Size(n) != 10 || Depth(n) != 3 || Size(num(1, 0)) != 1 || Depth(num(1, 0)) != 1 || Size(deep(100000)) != 100000 || Depth(deep(100000)) != 100000 {
 		t.Error(Size(n), Depth(n))
 	}
+	count := 0
+	for range All(deep(50000)) {
+		count++
+	}
+	if count != 50000 {
+		t.Error(count)
+	}
 	kept := Map(n, nil)
 	var kinds []int
 	for x := range All(n) {
