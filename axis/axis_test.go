@@ -180,3 +180,15 @@ func TestP3_3(t *testing.T) {
 		t.Error("zero")
 	}
 }
+
+func TestLiveAndSpan(t *testing.T) {
+	a := New(id(1), id(2), id(3))
+	a.Delete(id(2))
+	if !slices.Equal(a.Live(), []api.Id{id(1), id(3)}) || !slices.Equal(a.Span(api.Id{}, id(9)), []api.Id{id(1), id(3)}) || !slices.Equal(a.Span(id(3), id(2)), []api.Id{id(3)}) || a.Span(id(9), id(1)) != nil {
+		t.Error(a.Live())
+	}
+	var none *Axis
+	if none.Live() != nil || none.Span(api.Id{}, api.Id{}) != nil {
+		t.Error("nil")
+	}
+}

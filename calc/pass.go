@@ -36,10 +36,8 @@ type run struct {
 
 func placesOf(a *axis.Axis) map[api.Id]int {
 	out := map[api.Id]int{}
-	for id, live := range a.All() {
-		if live {
-			out[id] = len(out)
-		}
+	for i, id := range a.Live() {
+		out[id] = i
 	}
 	return out
 }

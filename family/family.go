@@ -6,6 +6,7 @@ import (
 	"slices"
 
 	"counterpane/api"
+	"counterpane/num"
 	"counterpane/shape"
 	"counterpane/value"
 )
@@ -59,6 +60,19 @@ func (t Table) Count(name string) (least, most int, ok bool) {
 // Fault tells the array of 1 with a fault.
 func Fault(fault int) api.Array {
 	return shape.One(value.Bad(fault))
+}
+
+// Whole tells the greatest whole number that isn't above a value's number; or a fault: tooGreat, if that doesn't fit.
+func Whole(v api.Value, tooGreat int) (int, int) {
+	n, fault := value.ToNum(v)
+	if fault != 0 {
+		return 0, fault
+	}
+	k, ok := num.Int(num.Floor(n))
+	if !ok {
+		return 0, tooGreat
+	}
+	return k, 0
 }
 
 // Values tells all values of all arguments, from the left.
