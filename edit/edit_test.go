@@ -75,7 +75,7 @@ func TestP27_1_P27_3(t *testing.T) {
 			t.Error(i, e, back)
 		}
 		after := s.Clone()
-		if i != 12 && sheet.Same(before, after) && i != 1 {
+		if ofTheDead, ofNone := i == 1, i == 12; sheet.Same(before, after) != (ofTheDead || ofNone) {
 			t.Error(i, "nothing done")
 		}
 		again, e := Apply(s, back)

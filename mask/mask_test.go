@@ -20,7 +20,7 @@ func TestP31_1(t *testing.T) {
 		at int
 		e  api.Errno
 	}{
-		{strings.Repeat(" ", 256), 0, api.ErrLong}, {strings.Repeat("x", 256), 0, api.ErrLong}, {"x", 0, api.ErrForm}, {"0x", 1, api.ErrForm}, {"0#", 1, api.ErrForm}, {"0.#0", 3, api.ErrForm}, {"0.0.0", 3, api.ErrForm}, {",0", 0, api.ErrForm}, {".", 0, api.ErrForm}, {"..0", 0, api.ErrForm}, {".,0", 0, api.ErrForm}, {"0.,", 2, api.ErrForm}, {"0.0,", 3, api.ErrForm}, {"0 0", 2, api.ErrForm}, {"General0", 7, api.ErrForm}, {"0General", 1, api.ErrForm}, {"GeneralGeneral", 0, api.ErrForm}, {"Generalx", 0, api.ErrForm}, {"Genera", 0, api.ErrForm}, {"GeneralZ", 0, api.ErrForm}, {"General-General", 8, api.ErrForm}, {"@", 0, api.ErrForm}, {"0;@", 2, api.ErrForm}, {";;@", 2, api.ErrForm}, {";;;0", 3, api.ErrForm}, {";;;%", 3, api.ErrForm}, {";;;General", 3, api.ErrForm}, {";;;@;", 4, api.ErrCount}, {";;;;x", 3, api.ErrCount}, {";;;;\"", 3, api.ErrCount}, {"\"abc", 4, api.ErrEnd}, {"0\"", 2, api.ErrEnd}, {"0\\", 2, api.ErrEnd}, {"x\"", 0, api.ErrForm}, {"\"x", 2, api.ErrEnd}, {"0;0;x", 4, api.ErrForm}, {"é", 0, api.ErrForm}, {"0\n", 1, api.ErrForm}, {"'", 0, api.ErrForm}, {"1", 0, api.ErrForm},
+		{strings.Repeat(" ", 256), 0, api.ErrLong}, {strings.Repeat("x", 256), 0, api.ErrLong}, {"x", 0, api.ErrForm}, {"0x", 1, api.ErrForm}, {"0#", 1, api.ErrForm}, {"0.#0", 3, api.ErrForm}, {"0.0.0", 3, api.ErrForm}, {",0", 0, api.ErrForm}, {".", 0, api.ErrForm}, {"..0", 0, api.ErrForm}, {".,0", 0, api.ErrForm}, {"0.,", 2, api.ErrForm}, {"0.0,", 3, api.ErrForm}, {"0 0", 2, api.ErrForm}, {"General0", 7, api.ErrForm}, {"0General", 1, api.ErrForm}, {"GeneralGeneral", 0, api.ErrForm}, {"Generalx", 0, api.ErrForm}, {"Genera", 0, api.ErrForm}, {"GeneralZ", 0, api.ErrForm}, {"General-General", 8, api.ErrForm}, {"@", 0, api.ErrForm}, {"0;@", 2, api.ErrForm}, {";;@", 2, api.ErrForm}, {";;;0", 3, api.ErrForm}, {";;;%", 3, api.ErrForm}, {";;;General", 3, api.ErrForm}, {";;;@;", 4, api.ErrCount}, {";;;;x", 3, api.ErrCount}, {";;;;\"", 3, api.ErrCount}, {"\"abc", 4, api.ErrEnd}, {"0\"", 2, api.ErrEnd}, {"0\\", 2, api.ErrEnd}, {"x\"", 0, api.ErrForm}, {"\"x", 2, api.ErrEnd}, {"0;0;x", 4, api.ErrForm}, {"é", 0, api.ErrForm}, {"0\n", 1, api.ErrForm}, {"'", 0, api.ErrForm}, {"1", 0, api.ErrForm}, {"(0:00)", 3, api.ErrForm},
 	} {
 		f, at, e := Parse(c.s)
 		if at != c.at || e != c.e || f.String() != "" || f.sections != nil {
@@ -36,19 +36,10 @@ func TestP31_1(t *testing.T) {
 func TestP31_2(t *testing.T) {
 	for _, c := range [][3]string{
 		{"#,##0.00", "1234.5", "1,234.50"}, {"0%;(0%)", "-0.125", "(13%)"}, {"0%;(0%)", "0.125", "13%"}, {"#,##0", "123456789", "123,456,789"}, {"#,##0", "999", "999"}, {"#,##0", "0", "0"}, {"#", "0", ""}, {"#.##", "0.5", ".5"}, {"#.##", "0", "."}, {"0.", "5.4", "5."}, {"0000", "12", "0012"}, {"0,000", "12", "0,012"}, {"000,000,", "12", "000,012"}, {"0,", "1234", "1,234"}, {".00", "1.005", "1.01"}, {".00", "0.001", ".00"}, {"0.0#", "1.25", "1.25"}, {"0.0#", "1.2", "1.2"}, {"0.0#", "1", "1.0"}, {"0.0#", "1.255", "1.26"}, {"0.00##", "1.5", "1.50"},
-		{"0", "-1.5", "-2"}, {"0", "-0.4", "0"}, {"0.0", "-0.04", "0.0"}, {"\"x1\"0", "-0.4", "x10"}, {"\"x\"", "-5", "x"}, {"$0", "-5", "-$5"}, {"General", "-0.5", "-0.5"}, {"General%", "-0.5", "-50%"}, {"\"n\" General", "12", "n 12"}, {"0;", "-5", ""}, {"0;;\"z\"", "0", "z"}, {"0;-0", "0", "0"}, {"0;\"neg\"0;\"zero\"", "-7", "neg7"}, {"", "5", ""}, {"", "-5", ""}, {";", "5", ""}, {"0%%", "0.5", "5000%%"}, {"%0", "0.5", "%50"}, {"\\%0", "0.5", "%1"}, {"\"%\"0", "0.5", "%1"}, {"0%", "1e38", "#NUM!"}, {"0%;0", "-1e39", "1" + strings.Repeat("0", 39)}, {"0%;0%", "-1e39", "#NUM!"}, {"%", "1e39", "#NUM!"}, {"0", "1e39", "1" + strings.Repeat("0", 39)}, {"0.0", "1e-40", "0.0"}, {"(0:00)", "5", ""},
+		{"0", "-1.5", "-2"}, {"0", "-0.4", "0"}, {"0.0", "-0.04", "0.0"}, {"\"x1\"0", "-0.4", "x10"}, {"\"x\"", "-5", "x"}, {"$0", "-5", "-$5"}, {"General", "-0.5", "-0.5"}, {"General%", "-0.5", "-50%"}, {"\"n\" General", "12", "n 12"}, {"0;", "-5", ""}, {"0;;\"z\"", "0", "z"}, {"0;-0", "0", "0"}, {"0;\"neg\"0;\"zero\"", "-7", "neg7"}, {"", "5", ""}, {"", "-5", ""}, {";", "5", ""}, {"0%%", "0.5", "5000%%"}, {"%0", "0.5", "%50"}, {"\\%0", "0.5", "%1"}, {"\"%\"0", "0.5", "%1"}, {"0%", "1e38", "#NUM!"}, {"0%;0", "-1e39", "1" + strings.Repeat("0", 39)}, {"0%;0%", "-1e39", "#NUM!"}, {"%", "1e39", "#NUM!"}, {"0", "1e39", "1" + strings.Repeat("0", 39)}, {"0.0", "1e-40", "0.0"},
 		{"0;0;0;\"t \"@@", "abc", "t abcabc"}, {"0;0;0", "abc", "abc"}, {"0;0;0;", "abc", ""}, {"0;0;0;\\@", "abc", "@"}, {"0", "", ""}, {"\"x\"", "TRUE", "TRUE"}, {"\"x\"", "#REF!", "#REF!"}, {";;;\"x\"", "TRUE", "TRUE"}, {"0;0;0;@", "5", "5"},
 	} {
 		f, _, e := Parse(c[0])
-		if c[0] == "(0:00)" {
-			if e != api.ErrForm {
-				t.Error("two places")
-			}
-			continue
-		}
-		if c[0] == "0%" && c[1] == "1e38" {
-			c[2] = "#NUM!"
-		}
 		if got := f.Show(value.Read(c[1])); e != api.OK || got != c[2] {
 			t.Error(c, got, e)
 		}

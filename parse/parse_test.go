@@ -49,7 +49,6 @@ func TestP7_1_trees(t *testing.T) {
 		"{1,-2;\"a\",#n/a}": "A2,4;N1e0;N-2e0;S1:a;E6;",
 		"{true;FALSE}":      "A2,2;T;F;",
 		"{-0}":              "A1,1;N0e0;",
-		"\"a\"\"b\"#REF!":   "",
 		"#ref!&1.50":        "B&;E3;N15e-1;",
 		" 1 + .5 ":          "B+;N1e0;N5e-1;",
 		"F(A:B,1:1)":        "C1:F,2;R0.0,2.1,0:0.0,2.2,0;R1.1,0.0,0:1.1,0.0,0;",
@@ -57,12 +56,6 @@ func TestP7_1_trees(t *testing.T) {
 	} {
 		n, at, e := Formula(s, rows, cols)
 		code, _ := tree.Code(n)
-		if want == "" {
-			if e != api.ErrForm {
-				t.Error(s, e)
-			}
-			continue
-		}
 		if e != api.OK || at != 0 || code != want {
 			t.Errorf("%s: %s %d %v", s, code, at, e)
 		}
