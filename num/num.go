@@ -29,8 +29,11 @@ func Right(a api.Num) bool {
 	if a.Mant%10 == 0 || a.Exp < -api.MaxPower {
 		return false
 	}
-	_, digits := digitsOf(a.Mant)
-	return len(digits) <= api.MaxDigits && a.Exp <= api.MaxPower-len(digits)
+	digits := 0
+	for m := a.Mant; m != 0; m /= 10 {
+		digits++
+	}
+	return digits <= api.MaxDigits && a.Exp <= api.MaxPower-digits
 }
 
 // digitsOf tells the sign of m, and its decimal digits, the first ones first; 0 has none.
